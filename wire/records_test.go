@@ -189,6 +189,8 @@ func TestJoinSize(t *testing.T) { // P207
 		{"a negative varint and a text", records{varint(1, -1), text(1, long(api.MaxMessage-15))}},
 		{"fixed numbers and a text", records{{Number: 1, Kind: 1}, {Number: 1, Kind: 5}, text(1, long(api.MaxMessage-18))}},
 		{"varints", slices.Repeat(records{varint(1, 127)}, api.MaxMessage/2)},
+		{"zeros", slices.Repeat(records{varint(1, 0)}, api.MaxMessage/2)},
+		{"empty texts", slices.Repeat(records{text(1, "")}, api.MaxMessage/2)},
 		{"groups", slices.Repeat(records{group(1)}, api.MaxMessage/2)},
 		{"fixed numbers", append(slices.Repeat(records{{Number: 2047, Kind: 1, Num: 5}}, api.MaxMessage/10), varint(1, 1<<28))},
 	} {
