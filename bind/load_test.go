@@ -117,6 +117,33 @@ func numbered(n int, form string) string {
 	return b.String()
 }
 
+func TestExamples(t *testing.T) { // P701 to P704: the chapter's examples of faults
+	b := []string{"b", "package b; message B { }"}
+	refused(t, "2", texts(append([]string{"a", "message A { b.B x = 1; }"}, b...)...), fault(api.ErrUnknown, 0, "A.x"))
+	right(t, "2", texts(append([]string{"a", "import \"b\"; message A { b.B x = 1; }"}, b...)...))
+	for _, c := range []struct {
+		text string
+		want api.Fault
+	}{
+		{"message M { int32 a = 1; int32 b = 1; }", fault(api.ErrFieldNumber, 0, "M.b")},
+		{"message M { int32 a_b = 1; int32 aB = 2; }", fault(api.ErrJsonName, 0, "M.aB")},
+		{"message M { int32 a = 19000; }", fault(api.ErrFieldNumber, 0, "M.a")},
+		{"message M { reserved 5; int32 a = 5; }", fault(api.ErrReserved, 0, "M.a")},
+		{"message M { map<bytes, int32> a = 1; }", fault(api.ErrMapKey, 0, "M.a")},
+		{"message M { map<float, int32> a = 1; }", fault(api.ErrMapKey, 0, "M.a")},
+		{"message M { map<E, int32> a = 1; } enum E { Z = 0; }", fault(api.ErrMapKey, 0, "M.a")},
+		{"package a.b; message M { a x = 1; }", fault(api.ErrNoType, 0, "a.b.M.x")},
+		{"enum E { A = 1; }", fault(api.ErrEnumValue, 0, "E")},
+		{"enum E { A = 0; B = 2147483648; }", api.Fault{Err: api.ErrRange, At: len(begin) + 20}},
+		{"enum E { A = 0; B = 0; }", fault(api.ErrEnumValue, 0, "E.B")},
+		{"message M { M.N.K x = 1; message N { } }", fault(api.ErrUnknown, 0, "M.x")},
+	} {
+		refused(t, "an example", texts("a", c.text), c.want)
+	}
+	refused(t, "4", texts("a", "package a.b;", "b", "message a { }"), fault(api.ErrTwice, 1, "a"))
+	refused(t, "6", texts("a", "import 'b'; package q; message N { } message M { N.K x = 1; }", "b", "message N { message K { } }"), fault(api.ErrUnknown, 0, "q.M.x"))
+}
+
 func TestSources(t *testing.T) { // P701, round 1
 	many := func(n int) []api.Source {
 		var l []api.Source
