@@ -148,7 +148,7 @@ func TestEachFault(t *testing.T) { // P1102: each fault by itself: at the top, i
 	}
 }
 
-func TestTwoFaults(t *testing.T) { // P1102: every two faults, in every part: the left one is told
+func TestTwoFaults(t *testing.T) { // P1102: every two faults, in some of the parts, each fault in all of them: the left one is told
 	s := wideSchema()
 	type two struct {
 		l   []wrong
@@ -169,7 +169,33 @@ func TestTwoFaults(t *testing.T) { // P1102: every two faults, in every part: th
 	}
 }
 
-func TestTwoFaultsInTwoParts(t *testing.T) { // P1102: a fault in a part, and another in the part around it, behind it or ahead
+func TestTwoFaultsInABlock(t *testing.T) { // P1102: in one block: the left number is told; a length that reaches too far ahead of what is in it; a block's fault ahead of what is behind it
+	s := wideSchema()
+	const ints, words = repeated + api.TInt32, repeated + api.TFixed32
+	over, open := row(nines+"02"), row("80 80")
+	for _, in := range inMessages() {
+		look := func(b []byte, place int, want api.Errno) {
+			t.Helper()
+			all := in.bytes(b)
+			refuses(t, s, "w.W", all, len(all)-len(b)+place, want)
+		}
+		look(record(ints, over, over), 3, api.ErrOver)
+		look(record(ints, over, open), 3, api.ErrOver)
+		look(record(ints, row("05"), over, open), 4, api.ErrOver)
+		look(record(ints, row("05 06"), open), 5, api.ErrEnds)
+		for _, content := range [][]byte{over, open, rows(row("05"), over), rows(over, open)} {
+			look(rows(tag(ints, 2), varint(len(content)+1), content), 2, api.ErrEnds)
+		}
+		look(rows(tag(words, 2), row("07"), make([]byte, 6)), 2, api.ErrEnds)
+		for _, then := range typed() {
+			look(rows(record(ints, row("05"), open), then.b), 4, api.ErrEnds)
+			look(rows(record(ints, over), then.b), 3, api.ErrOver)
+			look(rows(record(words, make([]byte, 6)), then.b), 7, api.ErrEnds)
+		}
+	}
+}
+
+func TestTwoFaultsInTwoParts(t *testing.T) { // P1102: every two faults, one in a part and the other in the part around it, behind it, or (of some of them) ahead
 	s := wideSchema()
 	numbers := []int{api.TMessage, repeated + api.TMessage, member + api.TMessage}
 	for i, c := range slices.Concat(splits(), typed()) {
