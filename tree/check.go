@@ -17,7 +17,8 @@ type walk struct {
 
 // checked tells the error that a call answers of its arguments, and its trail. ErrNormal is one where strict says so.
 func checked(s *bind.Schema, name string, v *api.Value, strict bool) ([]int, api.Errno) {
-	if _, e := s.Message(name); e != api.OK {
+	// No field has the number 0. (Message would answer copies of all fields, which are too many where each of many small trees is asked for.)
+	if _, e := s.Field(name, 0); e != api.ErrArg {
 		return nil, e
 	}
 	if e := refused(v); e != api.OK {
